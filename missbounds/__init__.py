@@ -1,0 +1,1 @@
+"""Missbounds: caches compared over all histories of requests."""
