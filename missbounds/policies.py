@@ -1,6 +1,6 @@
 """Policies and devices: what is one, and how many lines it has (points 6 and 8)."""
 
-from missbounds.errors import InvalidDevice
+from missbounds.errors import InvalidDevice, InvalidPolicy
 from missbounds.kinds import is_between, is_tuple
 from missbounds.limits import MOST_LINES, MOST_STATES
 
@@ -39,8 +39,19 @@ def is_device(value):
     return all([is_policy(policy) for policy in policies])
 
 
+def check_policy(value):
+    """Raise InvalidPolicy if any value is not a policy."""
+    if not is_policy(value):
+        raise InvalidPolicy(value)
+
+
+def check_device(value):
+    """Raise InvalidDevice if any value is not a device."""
+    if not is_device(value):
+        raise InvalidDevice(value)
+
+
 def count_lines(device):
     """Return the number of lines of a device, of both levels together."""
-    if not is_device(device):
-        raise InvalidDevice(device)
+    check_device(device)
     return sum([lines for lines, rows in device[1:]])

@@ -53,6 +53,18 @@ def put(value, path, new):
     return value[:index] + (put(value[index], path[1:], new),) + value[index + 1:]
 
 
+def changed_by(whole, values):
+    """Yield what nested tuples become if the value at any depth is replaced by each of some values, or by a list."""
+    for path in spots(whole):
+        inner = at(whole, path)
+        for value in values:
+            yield put(whole, path, value)
+        if isinstance(inner, tuple):
+            yield put(whole, path, list(inner))
+        yield put(whole, path, [inner])
+        yield put(whole, path, (inner,))
+
+
 def run_example(case, text):
     """Run an example in the form of the document and compare what it prints."""
     example = doctest.DocTestParser().get_doctest(text, {}, case.id(), None, 0)

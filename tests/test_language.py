@@ -1,6 +1,7 @@
 """The rules of the language that can be seen file by file: sizes, characters, words and imports."""
 
 import ast
+import builtins
 import io
 import pathlib
 import re
@@ -59,6 +60,30 @@ class LanguageTest(unittest.TestCase):
                     for alias in node.names:
                         self.assertIn(alias.name, defined(home), path)
 
+    def test_no_name_means_two_things(self):
+        for path, text in files():
+            tree = ast.parse(text)
+            taken = [alias.name for node in tree.body if isinstance(node, ast.ImportFrom) for alias in node.names]
+            taken += [node.name for node in tree.body if isinstance(node, ast.ClassDef)]
+            for name in bound_in(tree):
+                self.assertNotIn(name, taken, path)
+                self.assertNotIn(name, dir(builtins), path)
+                self.assertFalse(name.startswith("_"), path)
+            self.assertEqual(len(taken), len(set(taken)), path)
+
+    def test_statements_and_signs_that_are_not_used(self):
+        barred = (ast.Global, ast.AsyncFunctionDef, ast.Await, ast.Div, ast.MatMult, ast.AnnAssign)
+        for path, text in files():
+            for node in ast.walk(ast.parse(text)):
+                self.assertNotIsInstance(node, barred, f"{path}:{getattr(node, 'lineno', 0)}")
+                if isinstance(node, ast.Constant):
+                    self.assertNotIsInstance(node.value, (float, complex), path)
+                    self.assertNotIn("%", node.value if isinstance(node.value, str) else "", path)
+                if isinstance(node, ast.Call) and isinstance(node.func, ast.Name):
+                    if node.func.id in ("any", "all", "min", "max", "sum", "sorted"):
+                        generators = [part for part in node.args if isinstance(part, ast.GeneratorExp)]
+                        self.assertEqual(generators, [], f"{path}:{node.lineno}")
+
     def test_python_gives_no_warning(self):
         with warnings.catch_warnings():
             warnings.simplefilter("error")
@@ -70,6 +95,21 @@ def names_in(text):
     """Return the names in a text of a program, wherever they stand outside of strings and comments."""
     tokens = tokenize.generate_tokens(io.StringIO(text).readline)
     return [token.string for token in tokens if token.type == tokenize.NAME]
+
+
+def bound_in(tree):
+    """Return the names that functions bind: parameters, targets, nested functions and caught errors."""
+    names = []
+    for outer in ast.walk(tree):
+        if isinstance(outer, (ast.FunctionDef, ast.Lambda)):
+            for node in ast.walk(outer):
+                if isinstance(node, ast.arg):
+                    names.append(node.arg)
+                if isinstance(node, ast.Name) and isinstance(node.ctx, ast.Store):
+                    names.append(node.id)
+                if isinstance(node, (ast.FunctionDef, ast.ExceptHandler)) and node is not outer and node.name:
+                    names.append(node.name)
+    return names
 
 
 def defined(path):

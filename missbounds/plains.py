@@ -1,0 +1,31 @@
+"""Plain forms of policies, and whether devices answer alike (points 11 and 14)."""
+
+from missbounds.graphs import way_to
+from missbounds.pairs import check_count, check_pair, explore
+from missbounds.policies import check_policy
+from missbounds.stages import plain_form
+
+
+def plain(policy):
+    """Return the plain form of a policy."""
+    check_policy(policy)
+    rows = policy[1]
+    return plain_form(0, lambda state: rows[state][:2], lambda state, line: rows[state][2][line])
+
+
+def are_alike(one, other, *, names=None):
+    """Return whether two devices answer alike all histories, with at most so many names."""
+    return difference(one, other, names=names) is None
+
+
+def difference(one, other, *, names=None):
+    """Return the least of the shortest steps of which the last one is answered differently, or None."""
+    check_pair(one, other)
+    check_count(names)
+    rows = explore(one, other, names)[1]
+    # The rows come in the order of the ways to them, so the first step that differs is the one asked for.
+    for situation, row in enumerate(rows):
+        for step, ((hit, other_hit), behind) in enumerate(row):
+            if hit != other_hit:
+                return (*way_to(rows, situation), step)
+    return None
