@@ -27,35 +27,42 @@ def beginning(one, other):
     return states + other_states, contents + other_contents
 
 
-def count_names(situation):
-    """Return how many names occur in a situation."""
-    return 1 + max([number for number in situation[1] if number is not None], default=-1)
-
-
-def count_steps(situation, most):
-    """Return how many steps there are from a situation, with at most so many names."""
-    known = count_names(situation)
-    return known + 1 if most is None or known < most else known
-
-
-def follow(one, other, situation, step):
-    """Return the answers of both devices to the request of a step, and the situation behind it."""
-    states, contents = situation
-    levels = len(one) - 1
-    lines = len(start_of(one)[1])
-    hit, near_states, near = serve(one, states[:levels], contents[:lines], step)
-    other_hit, far_states, far = serve(other, states[levels:], contents[lines:], step)
-    return hit, other_hit, (near_states + far_states, renumbered(near + far))
-
-
-def renumbered(contents):
-    """Return contents with numbers from 0 on for their names, in the order in which these first occur."""
+def numbers_in(contents):
+    """Return a number for each name in contents, from 0 on in the order in which they first occur."""
     numbers = {}
     for name in contents:
         if name is not None:
             numbers.setdefault(name, len(numbers))
+    return numbers
+
+
+def renumbered(contents):
+    """Return contents with their numbers in the place of names."""
+    numbers = numbers_in(contents)
     # None has no number, so what stands for it is None again.
     return tuple([numbers.get(name) for name in contents])
+
+
+def count_steps(situation, most):
+    """Return how many steps there are from a situation, with at most so many names."""
+    known = len(numbers_in(situation[1]))
+    return known + 1 if most is None or known < most else known
+
+
+def request_both(one, other, situation, name):
+    """Return the answers of both devices to a request, and the situation behind it, with the names as they are."""
+    states, contents = situation
+    levels = len(one) - 1
+    lines = len(start_of(one)[1])
+    hit, near_states, near = serve(one, states[:levels], contents[:lines], name)
+    other_hit, far_states, far = serve(other, states[levels:], contents[lines:], name)
+    return hit, other_hit, (near_states + far_states, near + far)
+
+
+def follow(one, other, situation, step):
+    """Return the answers of both devices to the request of a step, and the situation behind it."""
+    hit, other_hit, (states, contents) = request_both(one, other, situation, step)
+    return hit, other_hit, (states, renumbered(contents))
 
 
 def ways_of(one, other, situation, most):

@@ -67,31 +67,17 @@ def each_path(program, length):
     check_program(program)
     if not is_between(length, 1, LONGEST_PATH):
         raise InvalidCount(length)
-    lasting = lasting_places(program, length)
-    if lasting[-1][0]:
-        yield from longer_paths(program, (0,), lasting)
+    yield from longer_paths(program, (0,), length)
 
 
-def longer_paths(program, path, lasting):
-    """Yield the paths with as many elements as `lasting` has, which begin with a path, in ascending order."""
-    left = len(lasting) - len(path)
-    if left == 0:
+def longer_paths(program, path, length):
+    """Yield the paths with so many elements that begin with a path, in ascending order."""
+    if len(path) == length:
         yield path
         return
     for target in program[path[-1]][1]:
-        # Without this test, paths that end early could be gone through for ever before one is found.
-        if lasting[left - 1][target]:
-            longer = (*path, target)
-            yield from longer_paths(program, longer, lasting)
-
-
-def lasting_places(program, length):
-    """Return for each number below `length` whether so many places can follow each place."""
-    lasting = [[True] * len(program)]
-    for more in range(1, length):
-        before = lasting[-1]
-        lasting.append([any([before[target] for target in targets]) for name, targets in program])
-    return lasting
+        longer = (*path, target)
+        yield from longer_paths(program, longer, length)
 
 
 def explore_paths(device, program):
@@ -103,11 +89,11 @@ def explore_paths(device, program):
 
 
 def moment_ways(device, program, moment):
-    """Return the ways from a moment: pairs of whether its request is a miss, and the moment behind it."""
+    """Return the ways from a moment: pairs of a target of its place, and the moment behind it."""
     place, states, contents = moment
     name, targets = program[place]
     hit, later_states, later = serve(device, states, contents, name)
-    return [(not hit, (target, later_states, later)) for target in targets]
+    return [(target, (target, later_states, later)) for target in targets]
 
 
 def is_miss(device, program, moment):

@@ -44,7 +44,7 @@ def circle_of(graph, choices):
             seen_from[node] = first
             trail.append((node, choices[node]))
             node = graph[node][choices[node]][0]
-        if trail and seen_from.get(node) == first:
+        if seen_from.get(node) == first:
             return trail[[passed for passed, place in trail].index(node):]
     return []
 

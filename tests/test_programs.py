@@ -361,7 +361,8 @@ class EachPathTest(unittest.TestCase):
         self.assertEqual(next(iter(each_path(program, 12))), (0,) * 12)
         self.assertEqual(list(itertools.islice(each_path(program, 12), 31))[29:], [(0,) * 11 + (29,), (0,) * 10 + (1, 0)])
         # Ten steps on there are no targets, whatever way is taken.
-        dead = tuple([("a", tuple(range(place // 3 * 3 + 3, place // 3 * 3 + 6)) if place < 27 else ()) for place in range(30)])
+        dead = tuple([
+            ("a", tuple(range(place // 3 * 3 + 3, place // 3 * 3 + 6)) if place < 27 else ()) for place in range(30)])
         self.assertEqual(list(each_path(dead, 12)), [])
         self.assertEqual(next(iter(each_path(dead, 10))), (0, 3, 6, 9, 12, 15, 18, 21, 24, 27))
 
