@@ -10,7 +10,15 @@ def plain(policy):
     """Return the plain form of a policy."""
     check_policy(policy)
     rows = policy[1]
-    return plain_form(0, lambda state: rows[state][:2], lambda state, line: rows[state][2][line])
+
+    def miss(state):
+        victim, after, hits = rows[state]
+        return victim, after
+
+    def hit(state, line):
+        return rows[state][2][line]
+
+    return plain_form(0, miss, hit)
 
 
 def are_alike(one, other, *, names=None):
@@ -25,7 +33,7 @@ def difference(one, other, *, names=None):
     rows = explore(one, other, names)[1]
     # The rows come in the order of the ways to them, so the first step that differs is the one asked for.
     for situation, row in enumerate(rows):
-        for step, ((hit, other_hit), behind) in enumerate(row):
-            if hit != other_hit:
+        for step, (told, behind) in enumerate(row):
+            if told[0] != told[1]:
                 return (*way_to(rows, situation), step)
     return None

@@ -54,7 +54,7 @@ def read_policy(texts, first):
     The index is also that of the error if the policy is not complete there: be it that the text ends, that the
     line is none of a policy, or that it comes too early or too late.
     """
-    headings = [f"lines {lines}" for lines in range(1, MOST_LINES + 1)]
+    headings = [f"lines {many}" for many in range(1, MOST_LINES + 1)]
     if first == len(texts) or texts[first] not in headings:
         raise InvalidText(first)
     lines = 1 + headings.index(texts[first])

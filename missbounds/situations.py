@@ -2,7 +2,7 @@
 
 from missbounds.devices import start_of
 from missbounds.errors import InvalidSituation, InvalidStep, InvalidSteps
-from missbounds.kinds import is_between, is_tuple
+from missbounds.kinds import is_between, is_tuple, is_whole
 from missbounds.limits import MOST_REQUESTS
 from missbounds.names import LETTERS, check_history
 from missbounds.pairs import (
@@ -94,7 +94,7 @@ def are_contents(one, other, value):
     many = lines + len(start_of(other)[1])
     if not is_tuple(value, many, many):
         return False
-    if not all([number is None or is_between(number, 0, many - 1) for number in value]):
+    if not all([number is None or is_whole(number) for number in value]):
         return False
     return value == renumbered(value) and each_once(one, value[:lines]) and each_once(other, value[lines:])
 

@@ -64,6 +64,22 @@ def grows(found, ratio):
     return True
 
 
+def has_endless_circle(found):
+    """Return whether on some circle of situations the first device misses and the other one never does."""
+    ways = {
+        situation: [(hit, behind) for (hit, other_hit), behind in told if other_hit]
+        for situation, told in found.items()
+    }
+    for situation, told in ways.items():
+        for hit, behind in told:
+            reached = [] if hit else [behind]
+            for place in reached:
+                reached += [later for hit, later in ways[place] if later not in reached]
+            if situation in reached:
+                return True
+    return False
+
+
 def small_pairs(chance, many, **most):
     """Return pairs of devices of all modes with not too many situations, with these."""
     pairs = []
@@ -151,6 +167,7 @@ class BoundTest(unittest.TestCase):
     def check_bound(self, one, other, names, found, told):
         """Check that the ratio has an excess, the least one, and that no lesser ratio has one."""
         many = len(found)
+        self.assertEqual(told is None, has_endless_circle(found))
         if told is None:
             self.assertIsNone(excess_by_walks(found, Fraction(many + 1)))
             self.assertIsNone(least_excess(one, other, (many + 1, 1), names=names))
