@@ -135,6 +135,16 @@ class BoundTest(unittest.TestCase):
         self.assertEqual(least_excess(("cache", late), ("cache", lru(2)), (5, 4)), (1, 2))
         self.assertIs(is_never_worse(("cache", late), ("cache", lru(2))), False)
 
+    def test_an_excess_that_is_no_integer(self):
+        one = ("cache", (2, ((1, 1, (0, 1)), (0, 0, (1, 1)))))
+        other = ("cache", (2, ((1, 1, (0, 0)), (0, 1, (0, 1)))))
+        self.assertEqual(bound(one, other), ((11, 7), (1, 7)))
+        self.check_bound(one, other, None, reference.situations(one, other), ((11, 7), (1, 7)))
+        one = ("cache", (2, ((0, 1, (1, 0)), (1, 0, (1, 1)))))
+        other = ("cache", (2, ((0, 1, (0, 0)), (1, 2, (1, 0)), (1, 0, (0, 2)))))
+        self.assertEqual(bound(one, other, names=3), ((3, 2), (1, 2)))
+        self.check_bound(one, other, 3, reference.situations(one, other, 3), ((3, 2), (1, 2)))
+
     def test_ratios_of_the_catalog(self):
         # With k lines against h of the best policies for the history, lru and fifo have the ratio k / (k - h + 1).
         for title in ("lru", "fifo", "clock"):
