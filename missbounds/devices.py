@@ -4,6 +4,8 @@ The states and the contents of a device are tuples: a state for each level, and 
 those of the upper level first. A name may be anything that can be compared: numbers stand for names elsewhere.
 """
 
+from missbounds.tuples import exchanged
+
 
 def start_of(device):
     """Return the states and the contents of a device at the beginning."""
@@ -55,8 +57,3 @@ def swap(policy, state, level, name, left):
     if left is None:
         return False, state, level
     return False, after, exchanged(level, victim, left)
-
-
-def exchanged(level, line, name):
-    """Return the lines of a level with another name in one of them."""
-    return level[:line] + (name,) + level[line + 1:]

@@ -2,6 +2,7 @@
 
 from missbounds.graphs import spread, way_to
 from missbounds.policies import check_policy
+from missbounds.tuples import exchanged
 from missbounds.walks import weigh
 
 # What stands before the first different request, whatever the history was.
@@ -60,13 +61,8 @@ def moves_from(rows, node, mark):
     state, marks = node
     victim, behind, hits = rows[state]
     old = [line for line in range(len(marks)) if marks[line] is True]
-    moves = [(line, (hits[line], marked(marks, line, mark))) for line in old]
-    return [*moves, (len(marks), (behind, marked(marks, victim, mark)))]
-
-
-def marked(marks, line, mark):
-    """Return marks with another one for a line."""
-    return (*marks[:line], mark, *marks[line + 1:])
+    moves = [(line, (hits[line], exchanged(marks, line, mark))) for line in old]
+    return [*moves, (len(marks), (behind, exchanged(marks, victim, mark)))]
 
 
 def memory_graph(rows):

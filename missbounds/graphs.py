@@ -38,4 +38,4 @@ def way_to(rows, goal):
     while goal != 0:
         goal, place = sources[goal]
         places.append(place)
-    return tuple(reversed(places))
+    return tuple(places[::-1])

@@ -1,6 +1,6 @@
 """Names and histories (point 5)."""
 
-from missbounds.errors import InvalidHistory
+from missbounds.errors import InvalidHistory, InvalidName
 from missbounds.kinds import is_tuple
 from missbounds.limits import MOST_REQUESTS
 
@@ -13,6 +13,12 @@ def is_name(value):
     if not isinstance(value, str) or not 1 <= len(value) <= LONGEST:
         return False
     return all([letter in LETTERS for letter in value])
+
+
+def check_name(value):
+    """Raise InvalidName if any value is not a name."""
+    if not is_name(value):
+        raise InvalidName(value)
 
 
 def check_history(value):

@@ -2,7 +2,7 @@
 
 from missbounds.devices import serve, start_of
 from missbounds.errors import InvalidCount
-from missbounds.graphs import spread
+from missbounds.graphs import spread, way_to
 from missbounds.kinds import is_between
 from missbounds.limits import MOST_NAMES, MOST_SITUATIONS
 from missbounds.policies import check_device
@@ -59,6 +59,14 @@ def request_both(one, other, situation, name):
     return hit, other_hit, (near_states + far_states, near + far)
 
 
+def place_behind(one, other, names):
+    """Return the situation of both devices behind a history, with the names as they are."""
+    place = beginning(one, other)
+    for name in names:
+        place = request_both(one, other, place, name)[2]
+    return place
+
+
 def follow(one, other, situation, step):
     """Return the answers of both devices to the request of a step, and the situation behind it."""
     hit, other_hit, (states, contents) = request_both(one, other, situation, step)
@@ -80,4 +88,19 @@ def explore(one, other, most):
     Situations and rows are as of `spread`: a step is the place of its way in the row, which is a pair of both
     answers and the index of the situation behind it. Raises TooManySituations.
     """
-    return spread(beginning(one, other), lambda situation: ways_of(one, other, situation, most), MOST_SITUATIONS)
+    return explore_from(one, other, beginning(one, other), most)
+
+
+def explore_from(one, other, begin, most):
+    """Return what `explore` does, from another situation on."""
+    return spread(begin, lambda situation: ways_of(one, other, situation, most), MOST_SITUATIONS)
+
+
+def first_difference(rows):
+    """Return the least of the shortest steps through rows of which the last one is answered differently, or None."""
+    # The rows come in the order of the ways to them, so the first step that differs is the one asked for.
+    for index, row in enumerate(rows):
+        for step, ((hit, other_hit), behind) in enumerate(row):
+            if hit != other_hit:
+                return (*way_to(rows, index), step)
+    return None

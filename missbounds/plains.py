@@ -1,7 +1,6 @@
 """Plain forms of policies, and whether devices answer alike (points 11 and 14)."""
 
-from missbounds.graphs import way_to
-from missbounds.pairs import check_count, check_pair, explore
+from missbounds.pairs import check_count, check_pair, explore, first_difference
 from missbounds.policies import check_policy
 from missbounds.stages import plain_form
 
@@ -30,10 +29,4 @@ def difference(one, other, *, names=None):
     """Return the least of the shortest steps of which the last one is answered differently, or None."""
     check_pair(one, other)
     check_count(names)
-    rows = explore(one, other, names)[1]
-    # The rows come in the order of the ways to them, so the first step that differs is the one asked for.
-    for situation, row in enumerate(rows):
-        for step, (told, behind) in enumerate(row):
-            if told[0] != told[1]:
-                return (*way_to(rows, situation), step)
-    return None
+    return first_difference(explore(one, other, names)[1])

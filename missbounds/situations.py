@@ -6,7 +6,8 @@ from missbounds.kinds import is_between, is_tuple, is_whole
 from missbounds.limits import MOST_REQUESTS
 from missbounds.names import LETTERS, check_history
 from missbounds.pairs import (
-    beginning, check_count, check_pair, count_steps, explore, follow, numbers_in, renumbered, request_both,
+    beginning, check_count, check_pair, count_steps, explore, follow, numbers_in, place_behind, renumbered,
+    request_both,
 )
 
 
@@ -14,10 +15,7 @@ def situation_of(one, other, names):
     """Return the situation of two devices after a history."""
     check_pair(one, other)
     check_history(names)
-    place = beginning(one, other)
-    for name in names:
-        place = request_both(one, other, place, name)[2]
-    states, contents = place
+    states, contents = place_behind(one, other, names)
     return states, renumbered(contents)
 
 
@@ -49,7 +47,11 @@ def names_of(one, other, steps):
     check_pair(one, other)
     if not is_tuple(steps, 0, MOST_REQUESTS):
         raise InvalidSteps(None)
-    place = beginning(one, other)
+    return names_from(one, other, beginning(one, other), steps)
+
+
+def names_from(one, other, place, steps):
+    """Return the names of steps from a situation with names on. Raises InvalidSteps for what is not a step there."""
     names = []
     for index, step in enumerate(steps):
         held = list(numbers_in(place[1]))
