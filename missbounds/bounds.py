@@ -12,7 +12,7 @@ def bound(one, other, *, names=None):
     """Return the least ratio and with it the least excess so that `one` is within them of `other`, or None."""
     check_pair(one, other)
     check_count(names)
-    graph = miss_graph(one, other, names)
+    graph = miss_graph(explore(one, other, names)[1])
     ratio = greatest_ratio(graph)[0]
     return None if ratio is None else (ratio, excess_for(graph, ratio))
 
@@ -23,7 +23,7 @@ def least_excess(one, other, ratio, *, names=None):
     if not is_fraction(ratio):
         raise InvalidRatio(ratio)
     check_count(names)
-    return excess_for(miss_graph(one, other, names), ratio)
+    return excess_for(miss_graph(explore(one, other, names)[1]), ratio)
 
 
 def is_never_worse(one, other, *, names=None):
@@ -36,6 +36,11 @@ def first_outside(one, other, *, names=None):
     check_pair(one, other)
     check_count(names)
     situations, rows = explore(one, other, names)
+    return way_outside(one, situations, rows)
+
+
+def way_outside(one, situations, rows):
+    """Return the least of the shortest steps to one of the situations in which `one` is outside, or None."""
     lines = len(start_of(one)[1])
     for index, (states, contents) in enumerate(situations):
         if is_outside(contents[:lines], contents[lines:]):
@@ -48,9 +53,8 @@ def is_outside(near, far):
     return any([name is not None and name not in far for name in near])
 
 
-def miss_graph(one, other, most):
-    """Return the graph of the situations, with the misses of `one` as gains and those of `other` as losses."""
-    rows = explore(one, other, most)[1]
+def miss_graph(rows):
+    """Return the graph of situations with these rows, with misses of `one` as gains and those of `other` as losses."""
     return [[(behind, 0 if hit else 1, 0 if other_hit else 1) for (hit, other_hit), behind in row] for row in rows]
 
 

@@ -1,9 +1,9 @@
 """After how many different requests a cache holds nothing from before any more (point 15)."""
 
-from missbounds.graphs import spread, way_to
+from missbounds.graphs import spread, told_on, told_to
 from missbounds.policies import check_policy
 from missbounds.tuples import exchanged
-from missbounds.walks import weigh
+from missbounds.walks import chosen_walk, weigh
 
 # What stands before the first different request, whatever the history was.
 BEFORE = ()
@@ -12,7 +12,7 @@ BEFORE = ()
 def forgets(policy):
     """Return the least number from 1 on of different requests after which no line is old, or None."""
     check_policy(policy)
-    counts, choices, circle = weigh(memory_graph(explore_memory(policy)[2]), (0, 1))
+    counts, choices, circle = weigh(memory_graph(explore_memory(policy)[3]), (0, 1))
     return None if circle else counts[0]
 
 
@@ -22,25 +22,21 @@ def longest_memory(policy):
     Returns None if there are any number of these.
     """
     check_policy(policy)
-    stages, stage_rows, rows = explore_memory(policy)
+    stages, stage_rows, nodes, rows = explore_memory(policy)
     graph = memory_graph(rows)
     counts, choices, circle = weigh(graph, (0, 1))
     if circle:
         return None
-    told = []
-    node = 0
-    while choices[node] is not None:
-        move, node = rows[node][choices[node]]
-        told.append(move)
-    return moves_to(stage_rows, told[0]), tuple(told[1:])
+    stage, *moves = told_on(rows, chosen_walk(graph, choices))
+    return told_to(stage_rows, stage), tuple(moves)
 
 
 def explore_memory(policy):
-    """Return the stages and their ways, and the ways of what different requests make of them.
+    """Return the stages and their ways, and what different requests make of them and the ways of these nodes.
 
     A stage has a state, and for each line True if it is filled, otherwise None: the marks of a cache all of whose
-    names are old. The third result begins with `BEFORE`, from which the ways lead to all stages with a filled
-    line; on them the index of the stage is told, on all others the move.
+    names are old. The nodes begin with `BEFORE`, from which the ways lead to all stages with a filled line; on them
+    the index of the stage is told, on all others the move. All other nodes have an old line.
     """
     lines, rows = policy
     empty = (0, (None,) * lines)
@@ -50,7 +46,8 @@ def explore_memory(policy):
     def ways_from(node):
         return starts if node == BEFORE else [way for way in moves_from(rows, node, False) if True in way[1][1]]
 
-    return stages, stage_rows, spread(BEFORE, ways_from, None)[1]
+    nodes, memory_rows = spread(BEFORE, ways_from, None)
+    return stages, stage_rows, nodes, memory_rows
 
 
 def moves_from(rows, node, mark):
@@ -68,13 +65,3 @@ def moves_from(rows, node, mark):
 def memory_graph(rows):
     """Return the graph of the rows, with each way as a gain, as of `weigh`."""
     return [[(behind, 1, 0) for told, behind in row] for row in rows]
-
-
-def moves_to(rows, goal):
-    """Return the moves that lead from the beginning to a stage."""
-    moves = []
-    node = 0
-    for place in way_to(rows, goal):
-        move, node = rows[node][place]
-        moves.append(move)
-    return tuple(moves)

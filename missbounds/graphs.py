@@ -39,3 +39,18 @@ def way_to(rows, goal):
         goal, place = sources[goal]
         places.append(place)
     return tuple(places[::-1])
+
+
+def told_to(rows, goal):
+    """Return what is told on the least of the shortest ways from the beginning to a node."""
+    told = []
+    node = 0
+    for place in way_to(rows, goal):
+        word, node = rows[node][place]
+        told.append(word)
+    return tuple(told)
+
+
+def told_on(rows, walk):
+    """Return what is told on the ways of a walk: a list of pairs of a node and the place of a way in its row."""
+    return tuple([rows[node][place][0] for node, place in walk])

@@ -51,7 +51,8 @@ def most_misses(device, program):
     """Return the greatest number of misses on a path, or None if there is no greatest one."""
     check_device(device)
     check_program(program)
-    counts, choices, circle = weigh(path_graph(device, program), (0, 1))
+    moments, rows = explore_paths(device, program)
+    counts, choices, circle = weigh(path_graph(device, program, moments, rows), (0, 1))
     return None if circle else counts[0]
 
 
@@ -59,7 +60,8 @@ def worst_rate(device, program):
     """Return the least fraction of the requests that the misses exceed on no path by more than some number."""
     check_device(device)
     check_program(program)
-    return greatest_ratio(path_graph(device, program))[0]
+    moments, rows = explore_paths(device, program)
+    return greatest_ratio(path_graph(device, program, moments, rows))[0]
 
 
 def each_path(program, length):
@@ -102,13 +104,12 @@ def is_miss(device, program, moment):
     return not serve(device, states, contents, program[place][0])[0]
 
 
-def path_graph(device, program):
-    """Return the graph of the moments, with the misses as gains and the requests as losses, as of `weigh`.
+def path_graph(device, program, moments, rows):
+    """Return the graph of moments with these rows, with the misses as gains and the requests as losses, as of `weigh`.
 
     Behind the moments it has a node for the end, to which each moment leads, so the request of the last place of a
     path counts too.
     """
-    moments, rows = explore_paths(device, program)
     graph = []
     for moment, row in zip(moments, rows):
         gain = 1 if is_miss(device, program, moment) else 0

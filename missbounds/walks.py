@@ -49,6 +49,16 @@ def circle_of(graph, choices):
     return []
 
 
+def chosen_walk(graph, choices):
+    """Return the walk from the node 0 on that follows the choices of places, as a list like a circle."""
+    trail = []
+    node = 0
+    while choices[node] is not None:
+        trail.append((node, choices[node]))
+        node = graph[node][choices[node]][0]
+    return trail
+
+
 def sums_of(graph, circle):
     """Return the gains and the losses on a circle."""
     ways = [graph[node][place] for node, place in circle]
