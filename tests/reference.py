@@ -188,3 +188,22 @@ def situations(one, other, most=None, limit=2000):
 
 def count_situations(one, other, most=None):
     return len(situations(one, other, most))
+
+
+def moments_of(device, program):
+    """Return the moments with the answers to their requests, and the moments that follow each, by machines."""
+    begin = Machine(device)
+    machines = {(0, *begin.place()): begin}
+    found = {}
+    queue = list(machines)
+    while queue:
+        moment = queue.pop()
+        machine = machines[moment].twin()
+        answer = machine.request(program[moment[0]][0])
+        behind = [(target, *machine.place()) for target in program[moment[0]][1]]
+        found[moment] = (answer, behind)
+        for other in behind:
+            if other not in machines:
+                machines[other] = machine
+                queue.append(other)
+    return found

@@ -201,3 +201,13 @@ def miss_counter(states):
 PAIR_600 = (hit_counter(26, 2), miss_counter(23))
 PAIR_601 = (hit_counter(25), miss_counter(24))
 PAIR_SMALL = (("cache", ONE), ("cache", LRU))
+
+
+def ring(places, names=1):
+    """Return a program of one circle of so many places, with so many names in turn."""
+    return tuple([("abcdefgh"[place % names], ((place + 1) % places,)) for place in range(places)])
+
+
+# A device and a program with 600 moments, the first two and 26 places with 23 states, and ones with 601.
+PROGRAM_600 = (counter(23), (("c", (1,)), *[("ab"[place % 2], (place % 26 + 1,)) for place in range(1, 27)]))
+PROGRAM_601 = (counter(25), ring(24, 8))

@@ -346,7 +346,7 @@ class AllTest(unittest.TestCase):
             program = tuple([
                 (chance.choice("ab"), tuple(sorted(chance.sample(range(many), chance.randint(0, many))))) for _ in range(many)])
             place, answer, count = chance.randrange(many), chance.random() < 0.5, chance.randint(0, 3)
-            moments = moments_of(device, program)
+            moments = tuple(reference.moments_of(device, program))
             for _ in range(12):
                 path = walked(chance, program, chance.randint(1, 4))
                 circle = walked(chance, program, chance.randint(1, 5))[1:]
@@ -367,14 +367,14 @@ class AllTest(unittest.TestCase):
         wheel = counter(64)
         ring = tuple([(letter, ((index + 1) % 7,)) for index, letter in enumerate("abcdefg")])
         two = ("plain", wheel[1], counter(61)[1])
-        moments = moments_of(two, ring)
+        moments = tuple(reference.moments_of(two, ring))
         self.assertGreater(len(moments), 3900)
         for answer in (True, False):
             self.assertIs(accepts(("always", two, ring, 3, answer), moments), answer is False)
         self.assertIs(accepts(("always", two, ring, 3, False), moments[1:]), False)
         line = tuple([(letter, (index + 1,) if index < 7 else ()) for index, letter in enumerate("abcdefgh")])
         many = tuple(
-            (moment, 8 - moment[0]) for moment in moments_of(two, line))
+            (moment, 8 - moment[0]) for moment in reference.moments_of(two, line))
         extra = tuple([((7, (state, low), ("a", "b")), 1) for state in range(64) for low in range(30)])
         self.assertIs(accepts(("at most", two, line, 8), many + extra), True)
         self.assertIs(accepts(("at most", two, line, 7), many + extra), False)
@@ -387,23 +387,6 @@ def walked(chance, program, length):
     while len(path) < length and program[path[-1]][1]:
         path += (chance.choice(program[path[-1]][1]),)
     return path
-
-
-def moments_of(device, program):
-    """Return the moments of a device on the paths of a program."""
-    begin = reference.Machine(device)
-    found = {(0, *begin.place()): begin}
-    queue = list(found)
-    for moment in queue:
-        machine = found[moment].twin()
-        name, targets = program[moment[0]]
-        machine.request(name)
-        for target in targets:
-            behind = (target, *machine.place())
-            if behind not in found:
-                found[behind] = machine
-                queue.append(behind)
-    return tuple(found)
 
 
 if __name__ == "__main__":

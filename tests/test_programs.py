@@ -10,16 +10,13 @@ from missbounds.catalog import fifo, lru, mru
 from missbounds.errors import InvalidCount, InvalidDevice, InvalidProgram, TooManySituations
 from missbounds.programs import each_path, is_program, most_misses, verdicts, worst_rate
 from refused import check_parameters, check_refused, values_told
-from samples import LEVELS, LRU, ONE, counter, random_device, small_devices, wrong_devices, wrong_names
+from samples import (
+    LEVELS, LRU, ONE, PROGRAM_600, PROGRAM_601, counter, random_device, ring, small_devices, wrong_devices, wrong_names,
+)
 
 MODES = ("cache",) + LEVELS
 LOOP = (("a", (1,)), ("b", (0, 2)), ("c", (0,)))
 WRONG_LENGTHS = [0, 13, 14, -1, 10 ** 39, "1", (1,), [1], {1: 1}, {1}]
-
-
-def ring(places, names=1):
-    """Return a program of one circle of so many places, with so many names in turn."""
-    return tuple([("abcdefgh"[place % names], ((place + 1) % places,)) for place in range(places)])
 
 
 def line(text):
@@ -52,25 +49,6 @@ def paths_of(program, length):
     for _ in range(length - 1):
         paths = [path + (target,) for path in paths for target in range(len(program)) if target in program[path[-1]][1]]
     return paths
-
-
-def moments_of(device, program):
-    """Return the moments with the answers to their requests, and the moments that follow each, by machines."""
-    begin = reference.Machine(device)
-    machines = {(0, *begin.place()): begin}
-    found = {}
-    queue = list(machines)
-    while queue:
-        moment = queue.pop()
-        machine = machines[moment].twin()
-        answer = machine.request(program[moment[0]][0])
-        behind = [(target, *machine.place()) for target in program[moment[0]][1]]
-        found[moment] = (answer, behind)
-        for other in behind:
-            if other not in machines:
-                machines[other] = machine
-                queue.append(other)
-    return found
 
 
 def greatest_mean(found):
@@ -173,7 +151,7 @@ class VerdictsTest(unittest.TestCase):
             for _ in range(40):
                 device = random_device(chance, mode, most_lines=3, most_states=3)
                 program = random_program(chance, 6, 4, 2)
-                found = moments_of(device, program)
+                found = reference.moments_of(device, program)
                 if len(found) <= 600:
                     self.assertEqual(verdicts(device, program), self.expected(program, found))
 
@@ -249,7 +227,7 @@ class MissesTest(unittest.TestCase):
             for number in range(80):
                 device = random_device(chance, mode, most_lines=3, most_states=2)
                 program = random_program(chance, 6, 4, 2) if number % 2 else random_ring(chance, 4)
-                found = moments_of(device, program)
+                found = reference.moments_of(device, program)
                 if len(found) <= 80:
                     rate = greatest_mean(found)
                     self.assertEqual(worst_rate(device, program), (rate.numerator, rate.denominator))
@@ -264,7 +242,7 @@ class MissesTest(unittest.TestCase):
         if told is None:
             return
         row = {moment: 0 for moment in [(0, *reference.Machine(device).place())]}
-        found = moments_of(device, program)
+        found = reference.moments_of(device, program)
         best = 0
         for _ in range(many + 1):
             best = max([best] + [count + (not found[moment][0]) for moment, count in row.items()])
@@ -294,31 +272,23 @@ class MissesTest(unittest.TestCase):
 
 class MomentsTest(unittest.TestCase):
 
-    def program_600(self):
-        """Return a program and a device with 600 moments: the first two, and 26 places with 23 states."""
-        places = [("c", (1,))] + [("ab"[place % 2], (place % 26 + 1,)) for place in range(1, 27)]
-        return counter(23), tuple(places)
-
-    def program_601(self):
-        return counter(25), ring(24, 8)
-
     def test_600_moments(self):
-        device, program = self.program_600()
-        self.assertEqual(len(moments_of(device, program)), 600)
+        device, program = PROGRAM_600
+        self.assertEqual(len(reference.moments_of(device, program)), 600)
         self.assertEqual(verdicts(device, program), ("miss",) * 27)
         self.assertIsNone(most_misses(device, program))
         self.assertEqual(worst_rate(device, program), (1, 1))
 
     def test_601_moments(self):
-        device, program = self.program_601()
-        self.assertEqual(len(moments_of(device, program)), 601)
+        device, program = PROGRAM_601
+        self.assertEqual(len(reference.moments_of(device, program)), 601)
         for function in (verdicts, most_misses, worst_rate):
             check_refused(self, TooManySituations, {"limit": 600}, function, device, program)
             check_refused(self, TooManySituations, {"limit": 600}, function, program=program, device=device)
             check_refused(self, InvalidProgram, {"value": list(program)[:0] or ()}, function, device, ())
 
     def test_moments_are_counted_on_paths_alone(self):
-        device, program = self.program_601()
+        device, program = PROGRAM_601
         # Here the 601 moments cannot be reached, as the first place has no targets.
         self.assertEqual(verdicts(device, (("a", ()),) + program[1:]), ("miss",) + ("never",) * 23)
 
