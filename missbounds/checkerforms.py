@@ -151,7 +151,7 @@ def fits_situation(one, other, value):
         # A number is new only if all lesser ones have occurred.
         if number is not None and not fits_range(number, known + 1):
             return False
-        if number is not None and number == known:
+        if number == known:
             known += 1
     return holds_each_once(one, contents[:lines]) and holds_each_once(other, contents[lines:])
 

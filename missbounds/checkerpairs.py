@@ -46,21 +46,15 @@ def shows_endless(one, other, allowed, evidence):
 
 def shows_alike(one, other, allowed, evidence):
     """Return whether situations show that all allowed steps are answered alike."""
-    situations = closed_situations(one, other, allowed, evidence)
-    if situations is None:
-        return False
-    for situation in situations:
-        for step in range(count_allowed(situation, allowed)):
-            missed, far_missed, behind = step_behind(one, other, situation, step)
-            if missed != far_missed:
-                return False
-    return True
+    told = closed_steps(one, other, allowed, evidence)
+    return told is not None and all([missed == far_missed for missed, far_missed, behind in told])
 
 
 def shows_differ(one, other, allowed, evidence):
     """Return whether the last one of some allowed steps is answered differently."""
-    if not isinstance(evidence, tuple) or len(evidence) == 0:
+    if not isinstance(evidence, tuple):
         return False
+    # Without a last step nothing is answered differently.
     ahead = walk(one, other, allowed, both_empty(one, other), evidence[:-1])
     last = None if ahead is None else walk(one, other, allowed, ahead[2], evidence[-1:])
     return last is not None and last[0] != last[1]
@@ -68,10 +62,9 @@ def shows_differ(one, other, allowed, evidence):
 
 def shows_inside(one, other, allowed, evidence):
     """Return whether situations show that `one` is outside `other` after no allowed steps."""
-    situations = closed_situations(one, other, allowed, evidence)
-    if situations is None:
+    if closed_steps(one, other, allowed, evidence) is None:
         return False
-    return not any([is_outside(one, situation) for situation in situations])
+    return not any([is_outside(one, situation) for situation in evidence])
 
 
 def shows_outside(one, other, allowed, evidence):
@@ -80,19 +73,20 @@ def shows_outside(one, other, allowed, evidence):
     return told is not None and is_outside(one, told[2])
 
 
-def closed_situations(one, other, allowed, evidence):
-    """Return the situations of evidence in a list.
+def closed_steps(one, other, allowed, evidence):
+    """Return a list of what all allowed steps from the situations of evidence lead to, as `step_behind` tells it.
 
     Returns None if they are no situations, one is twice, the beginning is missing, or an allowed step leads out.
     """
     situations = members_of(evidence, lambda value: fits_situation(one, other, value))
     if situations is None or both_empty(one, other) not in situations:
         return None
+    told = []
     for situation in situations:
-        for step in range(count_allowed(situation, allowed)):
-            if step_behind(one, other, situation, step)[2] not in situations:
-                return None
-    return list(situations)
+        told.extend([
+            step_behind(one, other, situation, step) for step in range(count_allowed(situation, allowed))
+        ])
+    return told if all([behind in situations for missed, far_missed, behind in told]) else None
 
 
 def is_outside(one, situation):

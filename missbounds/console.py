@@ -143,7 +143,7 @@ def number_in(part):
 def fraction_in(part):
     """Return the fraction of a part, which is an integer or has a lower part above 1, or None."""
     numbers = [number_in(text) for text in part.split("/")]
-    if None in numbers or len(numbers) > 2:
+    if None in numbers:
         return None
     if len(numbers) == 1:
         return numbers[0], 1

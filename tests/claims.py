@@ -1,5 +1,8 @@
-"""Claims with evidence that was written by hand, for each word."""
+"""Claims with evidence that was written by hand, for each word, and what the tests of the checker ask."""
 
+import unittest
+
+from missbounds.checker import accepts
 from samples import LRU, ONE
 
 # A cache of one line, and one of two lines that replaces the name that was requested longest ago.
@@ -59,3 +62,15 @@ RIGHT = {
     ),
     "answers": (("answers", DOUBLE, ("a", "b", "a"), (False, False, True)), None),
 }
+
+
+class ClaimTest(unittest.TestCase):
+    """Tests that ask the checker about some evidence for a claim."""
+
+    def accepted(self, claim, *all_evidence):
+        for evidence in all_evidence:
+            self.assertIs(accepts(claim, evidence), True, evidence)
+
+    def rejected(self, claim, *all_evidence):
+        for evidence in all_evidence:
+            self.assertIs(accepts(claim, evidence), False, evidence)

@@ -5,12 +5,12 @@ import copy
 import pathlib
 import unittest
 
-from claims import DOUBLE, LOOP, RIGHT, SINGLE
+from claims import DOUBLE, RIGHT, SINGLE
 from helper import Prickly, at, changed_by, nested, odd_values, put, run_example, spots
 from missbounds.checker import accepts
 from missbounds.policies import is_device, is_policy
 from missbounds.programs import is_program
-from samples import LRU, ONE, random_device, random_policy, wrong_devices, wrong_policies
+from samples import LRU, ONE, wrong_devices, wrong_policies
 from truths import is_claim, is_true
 
 PACKAGE = pathlib.Path(__file__).resolve().parent.parent / "missbounds"

@@ -4,7 +4,7 @@ import itertools
 import random
 import unittest
 
-from claims import KEEPS, RIGHT
+from claims import KEEPS, RIGHT, ClaimTest
 from helper import put
 from missbounds.catalog import fifo, lru
 from missbounds.checker import accepts
@@ -15,17 +15,6 @@ from truths import is_true
 SECOND = (2, ((1, 0, (0, 0)),))
 
 
-class ClaimTest(unittest.TestCase):
-
-    def accepted(self, claim, *all_evidence):
-        for evidence in all_evidence:
-            self.assertIs(accepts(claim, evidence), True, evidence)
-
-    def rejected(self, claim, *all_evidence):
-        for evidence in all_evidence:
-            self.assertIs(accepts(claim, evidence), False, evidence)
-
-
 class ForgetsTest(ClaimTest):
 
     def test_by_hand(self):
@@ -34,6 +23,7 @@ class ForgetsTest(ClaimTest):
         self.rejected(("forgets", ONE, 0), (stages, (((0, (True,)), 0),)), (stages, ()))
         self.rejected(("forgets", ONE, 1), (stages, ()), (stages, (((0, (True,)), 1),)), ((), ()), (stages[:1], ()))
         self.accepted(("forgets", ONE, 2), (stages, (((0, (True,)), 1),)), (stages, (((0, (True,)), 0),)))
+        self.rejected(("forgets", ONE, 1), (stages + ((0, (None,)),), (((0, (True,)), 0),)))
         # A line that is never filled.
         stages = ((0, (False, False)), (0, (False, True)))
         self.accepted(("forgets", SECOND, 1), (stages, (((0, (None, True)), 0),)))

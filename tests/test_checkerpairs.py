@@ -5,11 +5,11 @@ import random
 import unittest
 
 import reference
-from claims import BEGIN, DOUBLE, EVEN, FIRST, FULL, ODD, RIGHT, SINGLE, START
+from claims import BEGIN, DOUBLE, EVEN, FIRST, FULL, ODD, RIGHT, SINGLE, START, ClaimTest
 from helper import put
-from missbounds.catalog import fifo, lru, mru
+from missbounds.catalog import fifo, lru
 from missbounds.checker import accepts
-from samples import LRU, ONE, counter, hit_counter, miss_counter, random_device
+from samples import LRU, ONE, hit_counter, miss_counter, random_device
 from truths import is_true
 
 MODES = ("cache", "plain", "inclusive", "victim")
@@ -18,15 +18,7 @@ EARLY = ("cache", fifo(2))
 WORDS = ("within", "reached", "endless", "alike", "differ", "inside", "outside")
 
 
-class PairTest(unittest.TestCase):
-
-    def accepted(self, claim, *all_evidence):
-        for evidence in all_evidence:
-            self.assertIs(accepts(claim, evidence), True, evidence)
-
-    def rejected(self, claim, *all_evidence):
-        for evidence in all_evidence:
-            self.assertIs(accepts(claim, evidence), False, evidence)
+class PairTest(ClaimTest):
 
     def check_set(self, word, worth=None):
         """Check what is said of the situations of the evidence for a word, alone or with a fraction each."""
@@ -75,6 +67,17 @@ class WithinTest(PairTest):
                 self.rejected(claim, put(evidence, (index, 1), wrong))
             self.rejected(put(claim, (4,), wrong), evidence)
             self.rejected(put(claim, (5,), wrong), evidence)
+
+    def test_names_twice_and_numbers_left_out(self):
+        # The steps from these lead to situations that are there, so only the form speaks against them.
+        claim, evidence = RIGHT["within"]
+        for contents in ((0, 0, 0), (0, 0, 2), (0, 2, 0), (0, 2, 2), (1, 0, 1), (1, 0, 0), (0, 0, 1)):
+            for states in ((0, 0), (1, 0)):
+                self.rejected(claim, evidence + (((states, contents), (9, 1)),))
+        claim, evidence = RIGHT["inside"]
+        for contents in ((0, 0, 0), (0, 0, 2), (0, 2, 0), (2, 2, 0), (1, 0, 1), (1, 1, 0)):
+            for states in ((0, 0), (0, 1)):
+                self.rejected(claim, evidence + ((states, contents),))
 
     def test_pairs(self):
         claim, evidence = RIGHT["within"]
@@ -218,6 +221,14 @@ class EndlessTest(PairTest):
         # No circle, none that closes, none with a miss, one with misses of the other device.
         self.rejected(claim, ((0, 1), ()), ((), ()), ((0, 1), (1,)), ((0, 1), (0,)), ((0, 1), (2, 2)), ((0,), (1, 1)))
         self.rejected(claim, ((), (0, 1, 1, 1)), ((0, 1), (1, 1, 2, 2)))
+
+    def test_a_single_miss(self):
+        # Where the levels exchange their names, the situation comes again behind a step.
+        device = ("victim", ONE, ONE)
+        self.accepted(("endless", SINGLE, device, None), ((0, 1), (1,)), ((0, 1), (1, 1, 1)))
+        self.rejected(("endless", SINGLE, device, None), ((0, 1), (0,)), ((0, 1), (2,)))
+        self.accepted(("reached", SINGLE, SINGLE, None, (1, 1), (0, 1)), ((0,), (1,), ()))
+        self.rejected(("reached", SINGLE, SINGLE, None, (1, 1), (0, 1)), ((0,), (0,), ()))
 
     def test_form(self):
         claim, (ahead, circle) = RIGHT["endless"]

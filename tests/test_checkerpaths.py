@@ -6,35 +6,26 @@ import unittest
 
 import keepings
 import reference
-from claims import AGAIN, DOUBLE, EMPTY, END, LOOP, RIGHT, ROUND, SINGLE
+from claims import AGAIN, DOUBLE, EMPTY, END, LOOP, RIGHT, ROUND, SINGLE, ClaimTest
 from helper import odd_values, put
-from missbounds.catalog import fifo, lru
+from missbounds.catalog import fifo
 from missbounds.checker import accepts
-from samples import LRU, ONE, counter, random_device, random_history, small_devices, wrong_histories
+from samples import ONE, counter, random_device, random_history, small_devices, wrong_histories, wrong_names
 from truths import is_true
 
 MODES = ("cache", "plain", "inclusive", "victim")
 
 
-class ClaimTest(unittest.TestCase):
-
-    def accepted(self, claim, *all_evidence):
-        for evidence in all_evidence:
-            self.assertIs(accepts(claim, evidence), True, evidence)
-
-    def rejected(self, claim, *all_evidence):
-        for evidence in all_evidence:
-            self.assertIs(accepts(claim, evidence), False, evidence)
-
-    def wrong_moments(self):
-        """Return what is no moment of the double cache in the program of two places."""
-        lines = ("a", None)
-        wrong = [(2, (0,), lines), (-1, (0,), lines), (True, (0,), lines), (None, (0,), lines), ((0,), (0,), lines)]
-        wrong += [(0, (2,), lines), (0, (-1,), lines), (0, (True,), lines), (0, (), lines), (0, (0, 0), lines), (0, 0, lines), (0, [0], lines)]
-        wrong += [(0, (0,), lines[:1]), (0, (0,), lines + (None,)), (0, (0,), ("a", "a")), (0, (0,), list(lines)), (0, (0,), "ab")]
-        wrong += [(0, (0,), ("a", name)) for name in ("", "A", "abcdefg", "a b", "a1", 0, True, ("a",), b"a", ["a"])]
-        wrong += [(0, (0,)), (0, (0,), lines, 0), [0, (0,), lines], ((0,), 0, lines), (lines, (0,), 0), 0, None, (), "a", lines]
-        return wrong
+def wrong_moments():
+    """Return what is no moment of the double cache in the program of two places."""
+    # Nothing follows the last place, so only the form speaks against them.
+    lines = ("a", None)
+    wrong = [(2, (0,), lines), (-1, (0,), lines), (True, (0,), lines), (None, (0,), lines), ((1,), (0,), lines)]
+    wrong += [(1, (2,), lines), (1, (-1,), lines), (1, (True,), lines), (1, (), lines), (1, (0, 0), lines), (1, 0, lines), (1, [0], lines)]
+    wrong += [(1, (0,), lines[:1]), (1, (0,), lines + (None,)), (1, (0,), ("a", "a")), (1, (0,), list(lines)), (1, (0,), "ac")]
+    wrong += [(1, (0,), ("a", name)) for name in ("", "A", "abcdefg", "a b", "a1", 0, True, ("a",), b"a", ["a"])]
+    wrong += [(1, (0,)), (1, (0,), lines, 0), [1, (0,), lines], ((0,), 1, lines), (lines, (0,), 1), 1, None, (), "a", lines]
+    return wrong
 
 
 class AlwaysTest(ClaimTest):
@@ -46,7 +37,7 @@ class AlwaysTest(ClaimTest):
         for index, moment in enumerate(evidence):
             self.rejected(claim, evidence[:index] + evidence[index + 1:], evidence + (moment,), (moment,) + evidence)
         self.rejected(claim, (), list(evidence), evidence[0], (evidence,), dict.fromkeys(evidence), None)
-        for wrong in self.wrong_moments():
+        for wrong in wrong_moments():
             self.rejected(claim, evidence + (wrong,), (wrong,) + evidence)
 
     def test_moments_that_are_not_reached_count_too(self):
@@ -139,7 +130,7 @@ class AtMostTest(ClaimTest):
         for index, pair in enumerate(evidence):
             self.rejected(claim, evidence[:index] + evidence[index + 1:], evidence + (pair,), ((pair[0], 9),) + evidence)
         self.rejected(claim, (), list(evidence), evidence[0], (evidence,), dict(evidence), None)
-        for wrong in self.wrong_moments():
+        for wrong in wrong_moments():
             self.rejected(claim, evidence + ((wrong, 9),))
         for wrong in ((END,), (END, 1, 1), (1, END), END, [END, 1], 1, None, ()):
             self.rejected(claim, evidence[:2] + (wrong,))
@@ -246,6 +237,12 @@ class LeastTest(ClaimTest):
         for wrong in (kept[:-1], kept + (False,), list(kept), (1, 0, 0, 0, 0), (), None, "10000", put(kept, (0,), 1), put(kept, (1,), None)):
             self.rejected(claim, (wrong, weights))
 
+    def test_misses_that_are_not_those_of_the_keeping(self):
+        claim, (kept, weights) = RIGHT["least"]
+        # One element too many, one too few, and one True without a later request.
+        self.rejected(put(claim, (3,), 5), (kept + (False,), weights), (kept + (False,), weights + (0,)))
+        self.rejected(put(claim, (3,), 3), (kept[:-1], weights), (kept[:-1] + (True,), weights), (put(kept, (3,), True), weights))
+
     def test_weights(self):
         claim, (kept, weights) = RIGHT["least"]
         names = claim[1]
@@ -330,6 +327,12 @@ class AnswersTest(ClaimTest):
         claim, evidence = RIGHT["answers"]
         for names, index in wrong_histories():
             self.rejected(put(claim, (2,), names), None)
+        for name in wrong_names():
+            self.rejected(("answers", DOUBLE, (name,), (False,)), None)
+            self.rejected(("so many", DOUBLE, ((name, ()),), 1), (0,))
+        for name in ("a", "z", "abcdef", "zzzzzz"):
+            self.accepted(("answers", DOUBLE, (name,), (False,)), None)
+            self.accepted(("so many", DOUBLE, ((name, ()),), 1), (0,))
         for wrong in ((0, 0, 1), (False, False, 1), [False, False, True], (None,) * 3, "", None, (False, False)):
             self.rejected(put(claim, (3,), wrong), None)
         self.accepted(("answers", DOUBLE, (), ()), None)

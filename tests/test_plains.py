@@ -5,7 +5,7 @@ import unittest
 
 import reference
 from helper import nested, odd_values, run_example
-from missbounds.catalog import bits, clock, fifo, lifo, lru, mru, named, plru
+from missbounds.catalog import fifo, lifo, lru, mru, named
 from missbounds.errors import InvalidCount, InvalidDevice, InvalidPolicy, TooManySituations, TooManyStates
 from missbounds.plains import are_alike, difference, plain
 from missbounds.traces import answers

@@ -11,7 +11,7 @@ from missbounds.errors import InvalidCount, InvalidDevice, InvalidProgram, TooMa
 from missbounds.programs import each_path, is_program, most_misses, verdicts, worst_rate
 from refused import check_parameters, check_refused, values_told
 from samples import (
-    LEVELS, LRU, ONE, PROGRAM_600, PROGRAM_601, counter, random_device, ring, small_devices, wrong_devices, wrong_names,
+    LEVELS, LRU, ONE, PROGRAM_600, PROGRAM_601, random_device, ring, small_devices, wrong_devices, wrong_names,
 )
 
 MODES = ("cache",) + LEVELS

@@ -13,7 +13,7 @@ from missbounds.errors import (
 )
 from missbounds.rack import Rack
 from refused import check_parameters, check_refused, values_told
-from samples import LRU, ONE, PAIR_600, PAIR_601, random_device, wrong_devices, wrong_names
+from samples import LRU, ONE, PAIR_600, PAIR_601, wrong_devices, wrong_names
 
 SINGLE = ("cache", lru(1))
 DOUBLE = ("cache", lru(2))
@@ -377,6 +377,8 @@ class ErrorsTest(RackTest):
         taken = invalid[:1] + [("a", NameTaken, {"name": "a"})] + invalid
         check_parameters(self, untold(rack.install), ("name", "device"), ("z", SINGLE), {"name": taken, "device": devices})
         check_parameters(self, rack.exchange, ("name", "device"), ("a", SINGLE), {"name": unknown, "device": devices})
+        # Also where no limit asks for the device.
+        check_parameters(self, rack.exchange, ("name", "device"), ("c", SINGLE), {"device": devices})
         check_parameters(self, rack.drop, ("name",), ("c",), {"name": unknown})
         wrong = {
             "name": unknown, "other": unknown, "ratio": values_told(InvalidRatio, NOT_FRACTIONS),

@@ -9,7 +9,7 @@ from missbounds.errors import InvalidDevice, InvalidHistory, InvalidTimes
 from missbounds.traces import answers, count_misses, far_misses, long_run
 from refused import check_parameters, indexes_told, values_told
 from samples import (
-    FOUR, LEVELS, LRU, ONE, THREE, counter, policy_of, random_device, random_history, right_devices, wrong_devices,
+    FOUR, LEVELS, LRU, ONE, THREE, counter, random_device, random_history, right_devices, wrong_devices,
     wrong_histories,
 )
 

@@ -1,7 +1,5 @@
 """Whether claims are true, by looking at short histories and moves, apart from the checker and the evidence."""
 
-import itertools
-
 import keepings
 import reference
 from missbounds.policies import is_device, is_policy
