@@ -249,6 +249,10 @@ class TellingTest(unittest.TestCase):
         # Behind the first request the empty lines do not come again, so there are 600 then.
         self.assertIsNone(telling(PAIR_601, (("a", False),)))
         self.assertIsNone(telling((*PAIR_601, PAIR_601[0]), (("a", False), ("a", True))))
+        # Here 601 can be reached from behind the first request on, and 600 from behind the second one.
+        late = (hit_counter(25, 2), miss_counter(24))
+        check_refused(self, TooManySituations, {"limit": 600}, telling, late, (("a", False),))
+        self.assertIsNone(telling(late, (("a", False), ("a", True))))
         # Behind any number of requests all 624 pairs of states can be reached.
         for count in range(4):
             log = log_of(GREAT[0], ("a",) * count)
