@@ -84,6 +84,28 @@ class LanguageTest(unittest.TestCase):
                         generators = [part for part in node.args if isinstance(part, ast.GeneratorExp)]
                         self.assertEqual(generators, [], f"{path}:{node.lineno}")
 
+    def test_methods_attributes_and_properties_have_names_of_their_own(self):
+        methods, properties, attributes = set(), set(), set()
+        for path, text in files():
+            for node in ast.walk(ast.parse(text)):
+                if isinstance(node, ast.ClassDef):
+                    for part in [part for part in node.body if isinstance(part, ast.FunctionDef)]:
+                        is_property = [ast.unparse(name) for name in part.decorator_list] == ["property"]
+                        (properties if is_property else methods).add(part.name)
+                if isinstance(node, ast.Attribute) and isinstance(node.ctx, ast.Store):
+                    attributes.add(node.attr)
+        self.assertEqual(methods & attributes, set())
+        self.assertEqual(properties & (methods | attributes), set())
+
+    def test_handlers_and_ends_of_tries(self):
+        for path, text in files():
+            for node in ast.walk(ast.parse(text)):
+                if isinstance(node, ast.Try):
+                    for handler in node.handlers:
+                        self.assertNotIn(ast.unparse(handler.type), ("Exception", "TypeError", "AttributeError"), path)
+                    for part in node.finalbody:
+                        self.assertIsInstance(part, (ast.Assign, ast.If, ast.Pass), path)
+
     def test_python_gives_no_warning(self):
         with warnings.catch_warnings():
             warnings.simplefilter("error")
